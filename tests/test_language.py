@@ -1,0 +1,154 @@
+"""The package keeps to LANGUAGE.md: the rules that can be seen in a file's tree and signs."""
+
+import ast
+import builtins
+import pathlib
+import re
+import unittest
+
+import vesselhall
+
+FOLDER = pathlib.Path(vesselhall.__file__).resolve().parent
+
+OWN_NAMES = set("""
+    len range enumerate zip min max sum abs sorted reversed int str bool list tuple dict set frozenset isinstance
+    ord repr any all divmod Exception ValueError TypeError KeyError IndexError LookupError ZeroDivisionError
+    ArithmeticError OverflowError RuntimeError NotImplementedError AttributeError StopIteration
+""".split())
+
+OWN_METHODS = set("""
+    append clear copy count endswith extend find get index insert isalnum isalpha isdigit islower isspace isupper
+    items join keys ljust lower lstrip partition pop remove replace reverse rfind rjust rpartition rsplit rstrip
+    setdefault split splitlines startswith strip update upper values zfill bit_length
+""".split())
+
+DOUBLE_UNDERSCORES = set("__init__ __eq__ __repr__ __str__ __len__ __all__ __version__ __name__".split())
+
+BANNED_WORDS = re.compile(
+    r"\b(type|typing|typing_extensions|enum|Enum|IntEnum|StrEnum|Flag|IntFlag|Generic|Protocol|ABC|ABCMeta"
+    r"|namedtuple|NamedTuple|TypedDict|TYPE_CHECKING|abstractmethod)\b|dataclass|overload|contextmanager"
+)
+
+BANNED_NODES = (
+    ast.AsyncFor, ast.AsyncFunctionDef, ast.AsyncWith, ast.Assert, ast.Await, ast.Delete, ast.DictComp,
+    ast.GeneratorExp, ast.Global, ast.Import, ast.Match, ast.NamedExpr, ast.Nonlocal, ast.SetComp, ast.Starred,
+    ast.With, ast.Yield, ast.YieldFrom, ast.Div, ast.MatMult,
+)
+
+
+def files():
+    return [path for path in sorted(FOLDER.rglob("*")) if "__pycache__" not in path.parts]
+
+
+def modules():
+    return [(path, path.read_text(encoding="utf-8")) for path in files() if path.name != "__main__.py"]
+
+
+def nodes():
+    for path, text in modules():
+        for node in ast.walk(ast.parse(text)):
+            yield path, node
+
+
+def own_attributes():
+    found = set()
+    for path, node in nodes():
+        if isinstance(node, ast.ClassDef):
+            found.update([part.name for part in node.body if isinstance(part, ast.FunctionDef)])
+        if isinstance(node, ast.Attribute) and isinstance(node.ctx, ast.Store):
+            found.add(node.attr)
+    return found
+
+
+class Signs(unittest.TestCase):
+    def test_files_have_plain_names(self):
+        for path in files():
+            self.assertRegex(path.name, r"^([a-z][a-z0-9_]*|__init__|__main__)\.py$")
+            self.assertNotIn(path.stem, dir(builtins))
+
+    def test_lines_and_signs(self):
+        for path, text in modules():
+            lines = text.splitlines()
+            self.assertLessEqual(len(lines), 400, path)
+            for number, line in enumerate(lines, start=1):
+                with self.subTest(file=path.name, line=number):
+                    self.assertLessEqual(len(line), 120)
+                    self.assertRegex(line, r"^[ -~]*$")
+                    self.assertIsNone(BANNED_WORDS.search(line))
+
+
+class Trees(unittest.TestCase):
+    def each(self, *kinds):
+        for path, node in nodes():
+            if isinstance(node, kinds):
+                yield node, f"{path.name}, line {getattr(node, 'lineno', '?')}"
+
+    def test_no_banned_node(self):
+        for node, where in self.each(*BANNED_NODES):
+            self.fail(where)
+
+    def test_imports_are_of_the_package_by_full_names(self):
+        for node, where in self.each(ast.ImportFrom):
+            self.assertEqual(node.level, 0, where)
+            self.assertEqual([name.asname for name in node.names if name.name == "*"], [], where)
+            if node.module != "__future__":
+                self.assertTrue(node.module.startswith("vesselhall."), where)
+
+    def test_functions_are_short_and_plain(self):
+        for node, where in self.each(ast.FunctionDef):
+            self.assertLessEqual(node.end_lineno - node.lineno + 1, 40, where)
+            self.assertEqual(node.decorator_list, [], where)
+            self.assertIsNone(node.args.vararg, where)
+            self.assertIsNone(node.args.kwarg, where)
+            self.assertEqual(node.args.kwonlyargs + node.args.posonlyargs, [], where)
+
+    def test_classes_are_plain(self):
+        for node, where in self.each(ast.ClassDef):
+            self.assertEqual(node.decorator_list, [], where)
+            self.assertLessEqual(len(node.bases), 1, where)
+            self.assertEqual([part for part in node.body if isinstance(part, (ast.Assign, ast.AnnAssign))], [], where)
+
+    def test_names_are_plain_and_of_the_known_ones(self):
+        for node, where in self.each(ast.Name, ast.arg, ast.FunctionDef, ast.ClassDef):
+            name = getattr(node, "id", None) or getattr(node, "arg", None) or node.name
+            if name.startswith("_"):
+                self.assertIn(name, DOUBLE_UNDERSCORES, where)
+            elif isinstance(node, ast.Name) and name in dir(builtins):
+                self.assertIn(name, OWN_NAMES, where)
+                self.assertIsInstance(node.ctx, ast.Load, where)
+
+    def test_attributes_are_of_the_known_ones(self):
+        known = OWN_METHODS | own_attributes() | {"__init__"}
+        for node, where in self.each(ast.Attribute):
+            self.assertIn(node.attr, known, where)
+
+    def test_loops_and_assignments(self):
+        for node, where in self.each(ast.For, ast.While):
+            self.assertEqual(node.orelse, [], where)
+        for node, where in self.each(ast.Assign):
+            self.assertEqual(len(node.targets), 1, where)
+        for node, where in self.each(ast.Try):
+            self.assertEqual(node.finalbody, [], where)
+        for node, where in self.each(ast.ListComp):
+            self.assertEqual(len(node.generators), 1, where)
+            self.assertLessEqual(len(node.generators[0].ifs), 1, where)
+
+    def test_values(self):
+        for node, where in self.each(ast.Constant):
+            self.assertNotIsInstance(node.value, (float, complex, bytes), where)
+            self.assertNotIn("%", node.value if isinstance(node.value, str) else "", where)
+        for node, where in self.each(ast.Compare):
+            for sign, side in zip(node.ops, node.comparators):
+                if isinstance(sign, (ast.Is, ast.IsNot)):
+                    self.assertIsInstance(side, ast.Constant, where)
+        for node, where in self.each(ast.BinOp):
+            if isinstance(node.op, ast.Pow):
+                self.assertIsInstance(node.right, ast.Constant, where)
+                self.assertIn(node.right.value, range(65), where)
+        for node, where in self.each(ast.FormattedValue):
+            self.assertIsInstance(node.value, ast.Name, where)
+            self.assertIsNone(node.format_spec, where)
+
+
+if __name__ == "__main__":
+    unittest.main()

@@ -1,0 +1,1 @@
+"""Vesselhall: stuffs in a vessel, and what their turnings keep, lead to and weigh."""

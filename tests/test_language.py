@@ -29,6 +29,18 @@ BANNED_WORDS = re.compile(
     r"|namedtuple|NamedTuple|TypedDict|TYPE_CHECKING|abstractmethod)\b|dataclass|overload|contextmanager"
 )
 
+# L17: nowhere at all, and not as names.
+BANNED_NAMES = set("register mro elements open input version_info with_traceback add_note".split())
+BANNED_AS_NAMES = BANNED_NAMES | set("""
+    attrgetter breakpoint builtins compile copyright credits delattr dir eval exec exit gc getattr globals hasattr
+    help id importlib license locals methodcaller os quit setattr super type vars sys __name__
+""".split())
+
+KEYWORDS = {
+    "sorted": {"key", "reverse"}, "min": {"key", "default"}, "max": {"key", "default"}, "sum": {"start"},
+    "enumerate": {"start"}, "zip": {"strict"},
+}
+
 BANNED_NODES = (
     ast.AsyncFor, ast.AsyncFunctionDef, ast.AsyncWith, ast.Assert, ast.Await, ast.Delete, ast.DictComp,
     ast.GeneratorExp, ast.Global, ast.Import, ast.Match, ast.NamedExpr, ast.Nonlocal, ast.SetComp, ast.Starred,
@@ -58,6 +70,37 @@ def own_attributes():
         if isinstance(node, ast.Attribute) and isinstance(node.ctx, ast.Store):
             found.add(node.attr)
     return found
+
+
+def imports_of(tree):
+    """The modules of the package that a file draws from, and for each the names."""
+    return [(node.module, name.asname or name.name) for node in tree.body if isinstance(node, ast.ImportFrom)
+            for name in node.names if node.module != "__future__"]
+
+
+def defined_in(tree):
+    names = [node.name for node in tree.body if isinstance(node, (ast.FunctionDef, ast.ClassDef))]
+    for node in tree.body:
+        if isinstance(node, ast.Assign):
+            names.extend([target.id for target in node.targets if isinstance(target, ast.Name)])
+    return names
+
+
+def bound_in(function):
+    """The parameters and locals of a function."""
+    for node in ast.walk(function):
+        if isinstance(node, ast.arg):
+            yield node.arg
+        elif isinstance(node, ast.Name) and isinstance(node.ctx, ast.Store):
+            yield node.id
+
+
+def may_hold_a_set(parent):
+    if isinstance(parent, ast.Call):
+        return isinstance(parent.func, ast.Name) and parent.func.id in ("sorted", "len") and not parent.keywords
+    if isinstance(parent, ast.BinOp):
+        return isinstance(parent.op, (ast.Sub, ast.BitAnd, ast.BitOr, ast.BitXor))
+    return isinstance(parent, ast.Compare)
 
 
 class Signs(unittest.TestCase):
@@ -148,6 +191,58 @@ class Trees(unittest.TestCase):
         for node, where in self.each(ast.FormattedValue):
             self.assertIsInstance(node.value, ast.Name, where)
             self.assertIsNone(node.format_spec, where)
+
+    def test_calls_of_pythons_own_have_their_own_keywords_alone(self):
+        for node, where in self.each(ast.Call):
+            if isinstance(node.func, ast.Name) and node.func.id in OWN_NAMES:
+                used = {keyword.arg for keyword in node.keywords}
+                self.assertLessEqual(used, KEYWORDS.get(node.func.id, set()), where)
+
+    def test_names_that_are_not_used(self):
+        for node, where in self.each(ast.Name, ast.arg, ast.Attribute, ast.FunctionDef, ast.ClassDef):
+            if isinstance(node, ast.Attribute):
+                self.assertNotIn(node.attr, BANNED_NAMES, where)
+            else:
+                name = getattr(node, "id", None) or getattr(node, "arg", None) or node.name
+                self.assertNotIn(name, BANNED_AS_NAMES, where)
+
+    def test_sets_are_not_kept(self):
+        for parent, where in self.each(ast.AST):
+            for node in ast.iter_child_nodes(parent):
+                if isinstance(node, ast.Call) and getattr(node.func, "id", None) in ("set", "frozenset"):
+                    self.assertTrue(may_hold_a_set(parent), where)
+
+
+class Files(unittest.TestCase):
+    def trees(self):
+        return {"vesselhall." + path.stem: ast.parse(text) for path, text in modules() if path.stem != "__init__"}
+
+    def test_names_are_drawn_from_the_file_that_defines_them(self):
+        trees = self.trees()
+        for name, tree in trees.items():
+            for module, drawn in imports_of(tree):
+                self.assertIn(drawn, defined_in(trees[module]), name)
+
+    def test_no_two_files_draw_from_one_another(self):
+        left = {name: {module for module, drawn in imports_of(tree)} for name, tree in self.trees().items()}
+        while left:
+            ready = [name for name, drawn in left.items() if not drawn & set(left)]
+            self.assertNotEqual(ready, [], f"a ring is among {sorted(left)}")
+            left = {name: drawn for name, drawn in left.items() if name not in ready}
+
+    def test_each_name_is_bound_once_at_the_top(self):
+        for name, tree in self.trees().items():
+            bound = defined_in(tree) + [drawn for module, drawn in imports_of(tree)]
+            self.assertEqual(len(bound), len(set(bound)), name)
+
+    def test_locals_are_not_called_like_what_stands_above_them(self):
+        for name, tree in self.trees().items():
+            taken = {drawn for module, drawn in imports_of(tree)} | set(dir(builtins))
+            taken |= {node.name for node in tree.body if isinstance(node, ast.ClassDef)}
+            for node in ast.walk(tree):
+                if isinstance(node, (ast.FunctionDef, ast.Lambda)):
+                    for local in bound_in(node):
+                        self.assertNotIn(local, taken, f"{name}, line {node.lineno}")
 
 
 if __name__ == "__main__":

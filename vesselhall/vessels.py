@@ -76,10 +76,14 @@ def heaps(vessel):
     return heaps_of(vessel[1])
 
 
-def change(vessel, number):
+def turning_at(vessel, number):
     turnings = vessel[1]
     # Python would take a number below 0 as one from the end.
     if not whole(number) or not 0 <= number < len(turnings):
         raise NoTurning("a turning's number is from 0 on and below the count of turnings")
-    turning = turnings[number]
+    return turnings[number]
+
+
+def change(vessel, number):
+    turning = turning_at(vessel, number)
     return tuple([behind - ahead for ahead, behind in zip(turning[0], turning[1])])

@@ -7,7 +7,7 @@ from math import gcd
 
 from vesselhall import rows as module
 
-NAMES = ("worth", "crossed", "come_to", "lowest", "free_places", "nought_makers")
+NAMES = ("crossed", "unit_rows", "opposites", "common_divisor", "lowest", "free_places", "nought_makers")
 ABSENT = [name for name in NAMES if not hasattr(module, name)]
 
 ROWS = (
@@ -32,6 +32,10 @@ def rank(rows):
     return told
 
 
+def come_to(rows, numbers):
+    return [sum([number * row[place] for number, row in zip(numbers, rows)]) for place in range(len(rows[0]))]
+
+
 def all_rows():
     chance = random.Random(19)
     told = list(ROWS)
@@ -43,18 +47,21 @@ def all_rows():
 
 @unittest.skipIf(ABSENT, f"rows holds other names: {ABSENT}")
 class Rows(unittest.TestCase):
-    def test_worth(self):
-        self.assertEqual(module.worth([1, -2, 3], (4, 5, 6)), 12)
-        self.assertEqual(module.worth([0, 0], (7, -9)), 0)
-        self.assertEqual(module.worth([10 ** 39], (-10 ** 39,)), -(10 ** 78))
-
     def test_crossed(self):
         self.assertEqual(module.crossed([[1, 2, 3], [4, 5, 6]]), [[1, 4], [2, 5], [3, 6]])
         self.assertEqual(module.crossed([(7,)]), [[7]])
 
-    def test_come_to(self):
-        self.assertEqual(module.come_to([(1, 0, 2), (3, -1, 0)], [2, -5]), [-13, 5, 4])
-        self.assertEqual(module.come_to([[1, 2]], [0]), [0, 0])
+    def test_unit_rows(self):
+        self.assertEqual(module.unit_rows(1), [[1]])
+        self.assertEqual(module.unit_rows(3), [[1, 0, 0], [0, 1, 0], [0, 0, 1]])
+
+    def test_opposites(self):
+        self.assertEqual(module.opposites([[1, -2, 0], (-3, 0, 4)]), [[-1, 2, 0], [3, 0, -4]])
+
+    def test_common_divisor(self):
+        for row, told in (([4, -6], 2), ([0, -5, 10], 5), ([6, 10, 15], 1), ([0, 0], 0), ([-7], 7)):
+            with self.subTest(row):
+                self.assertEqual(module.common_divisor(row), told)
 
     def test_lowest(self):
         for row, told in (
@@ -83,7 +90,7 @@ class Rows(unittest.TestCase):
                 self.assertEqual(rank(told), len(told))
                 for numbers in told:
                     self.assertEqual(len(numbers), len(rows))
-                    self.assertEqual(set(module.come_to(rows, numbers)), {0})
+                    self.assertEqual(set(come_to(rows, numbers)), {0})
                     self.assertEqual(gcd(*numbers), 1)
                     self.assertGreater(next(number for number in numbers if number != 0), 0)
 

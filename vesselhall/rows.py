@@ -1,10 +1,6 @@
-"""Rows of whole numbers: what they come to, their lowest terms, and which of them stand free."""
+"""Rows of whole numbers: their lowest terms, which of them stand free, and how they come to nought."""
 
 from vesselhall.fractions import greatest_divisor
-
-
-def worth(row, pieces):
-    return sum([number * many for number, many in zip(row, pieces)])
 
 
 def column(rows, place):
@@ -15,10 +11,6 @@ def crossed(rows):
     return [column(rows, place) for place in range(len(rows[0]))]
 
 
-def come_to(rows, numbers):
-    return [worth(numbers, column(rows, place)) for place in range(len(rows[0]))]
-
-
 def first_place(row):
     for place, number in enumerate(row):
         if number != 0:
@@ -26,13 +18,34 @@ def first_place(row):
     return None
 
 
+def unit_row(size, own):
+    return [1 if place == own else 0 for place in range(size)]
+
+
+def unit_rows(size):
+    return [unit_row(size, own) for own in range(size)]
+
+
+def opposite(row):
+    return [-number for number in row]
+
+
+def opposites(rows):
+    return [opposite(row) for row in rows]
+
+
+def common_divisor(row):
+    divisor = 0
+    for number in row:
+        divisor = greatest_divisor(divisor, number)
+    return divisor
+
+
 def lowest(row):
     place = first_place(row)
     if place is None:
         return list(row)
-    divisor = 0
-    for number in row:
-        divisor = greatest_divisor(divisor, number)
+    divisor = common_divisor(row)
     if row[place] < 0:
         divisor = -divisor
     return [number // divisor for number in row]
@@ -50,10 +63,10 @@ def sifted(rows):
     stairs = []
     free = []
     makers = []
+    units = unit_rows(len(rows))
     for place, row in enumerate(rows):
         # Behind its numbers each row bears how many times it is made of which rows.
-        own = [1 if other == place else 0 for other in range(len(rows))]
-        rest = cleared(list(row) + own, stairs)
+        rest = cleared(list(row) + units[place], stairs)
         if first_place(rest) < len(row):
             stairs.append(rest)
             free.append(place)

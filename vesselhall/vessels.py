@@ -87,3 +87,7 @@ def turning_at(vessel, number):
 def change(vessel, number):
     turning = turning_at(vessel, number)
     return tuple([behind - ahead for ahead, behind in zip(turning[0], turning[1])])
+
+
+def changes(vessel):
+    return [change(vessel, number) for number in range(len(vessel[1]))]

@@ -36,6 +36,9 @@ BANNED_AS_NAMES = BANNED_NAMES | set("""
     help id importlib license locals methodcaller os quit setattr super type vars sys __name__
 """.split())
 
+# L26: what a value of an object may be called though Python's own texts and lists have it.
+VALUES_LIKE_METHODS = set("count index title find get join lower upper split strip copy add".split())
+
 KEYWORDS = {
     "sorted": {"key", "reverse"}, "min": {"key", "default"}, "max": {"key", "default"}, "sum": {"start"},
     "enumerate": {"start"}, "zip": {"strict"},
@@ -62,14 +65,13 @@ def nodes():
             yield path, node
 
 
-def own_attributes():
-    found = set()
-    for path, node in nodes():
-        if isinstance(node, ast.ClassDef):
-            found.update([part.name for part in node.body if isinstance(part, ast.FunctionDef)])
-        if isinstance(node, ast.Attribute) and isinstance(node.ctx, ast.Store):
-            found.add(node.attr)
-    return found
+def methods():
+    return {part.name for path, node in nodes() if isinstance(node, ast.ClassDef)
+            for part in node.body if isinstance(part, ast.FunctionDef)}
+
+
+def values():
+    return {node.attr for path, node in nodes() if isinstance(node, ast.Attribute) and isinstance(node.ctx, ast.Store)}
 
 
 def imports_of(tree):
@@ -161,9 +163,21 @@ class Trees(unittest.TestCase):
                 self.assertIsInstance(node.ctx, ast.Load, where)
 
     def test_attributes_are_of_the_known_ones(self):
-        known = OWN_METHODS | own_attributes() | {"__init__"}
+        known = OWN_METHODS | methods() | values() | {"__init__"}
         for node, where in self.each(ast.Attribute):
             self.assertIn(node.attr, known, where)
+
+    def test_methods_and_values_of_classes(self):
+        self.assertEqual(methods() & values(), set())
+        pythons_own = set()
+        for kind in (str, bytes, int, list, tuple, dict, set):
+            pythons_own.update(dir(kind))
+        self.assertLessEqual(methods() & pythons_own, OWN_METHODS | {"add", "discard"} | DOUBLE_UNDERSCORES)
+        self.assertLessEqual(values() & pythons_own, VALUES_LIKE_METHODS)
+        for node, where in self.each(ast.FunctionDef):
+            if node.name == "__init__":
+                returns = [part for part in ast.walk(node) if isinstance(part, ast.Return) and part.value is not None]
+                self.assertEqual(returns, [], where)
 
     def test_loops_and_assignments(self):
         for node, where in self.each(ast.For, ast.While):

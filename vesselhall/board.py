@@ -5,7 +5,7 @@ row leaves unused, then its end. The unknowns are from 0 on, and each line has o
 which stands in no other line; the others are taken as 0.
 """
 
-from vesselhall.fractions import greatest_divisor
+from vesselhall.fractions import least_multiple
 from vesselhall.rows import common_divisor, lowest, opposite, opposites, unit_rows
 
 
@@ -44,7 +44,7 @@ def passed_on(board, at, place):
 def numbers_on(board, holders, size):
     bottom = 1
     for line, holder in zip(board, holders):
-        bottom = bottom * line[holder] // greatest_divisor(bottom, line[holder])
+        bottom = least_multiple(bottom, line[holder])
     numbers = [0] * size
     for line, holder in zip(board, holders):
         if holder < size:

@@ -16,6 +16,10 @@ def greatest_divisor(one, two):
     return abs(one)
 
 
+def least_multiple(one, two):
+    return one * two // greatest_divisor(one, two)
+
+
 def fraction(top, bottom):
     if not whole(top) or not whole(bottom):
         raise NoFraction("a fraction is made of two whole numbers")
